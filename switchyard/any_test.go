@@ -1,6 +1,7 @@
 package switchyard_test
 
 import (
+	"bytes"
 	"math/rand"
 	"strings"
 	"testing"
@@ -10,7 +11,7 @@ import (
 	"switchyard/switchyard"
 )
 
-// P1 and P2, as far as Plain goes.
+// P1 and P2, as far as Plain, Pack and Unpack go.
 
 // holds looks at what must be so of every text.
 func holds(t *testing.T, text string) {
@@ -41,6 +42,22 @@ func holds(t *testing.T, text string) {
 	}
 	if plain2, err2, at2 := switchyard.Plain(text); plain2 != plain || err2 != err || at2 != at {
 		t.Fatalf("Plain(%q) answers otherwise when it is asked again", text)
+	}
+	packsAsPlain(t, text, plain, err, at)
+}
+
+// packsAsPlain holds Pack, and Unpack behind it, against what Plain answered.
+func packsAsPlain(t *testing.T, text, plain string, err api.Errno, at int) {
+	t.Helper()
+	blob, packErr, packAt := switchyard.Pack(text)
+	if packErr != err || packAt != at || (len(blob) == 0) != (err != api.OK) {
+		t.Fatalf("Pack(%q) = %q, %d, %d, but Plain has %d, %d", text, blob, packErr, packAt, err, at)
+	}
+	if err != api.OK {
+		return
+	}
+	if got, err := switchyard.Unpack(blob); got != plain || err != api.OK {
+		t.Fatalf("Unpack(%q) = %q, %d, want %q", blob, got, err, plain)
 	}
 }
 
@@ -107,10 +124,129 @@ func FuzzPlain(f *testing.F) {
 	f.Fuzz(holds)
 }
 
+// blobHolds looks at what must be so of all bytes.
+func blobHolds(t *testing.T, blob []byte) {
+	t.Helper()
+	handed, before := withRoom(blob)
+	plain, err := switchyard.Unpack(handed)
+	switch {
+	case !bytes.Equal(handed[:cap(handed)], before):
+		t.Fatalf("Unpack(%q) wrote into what was handed in, or behind it", blob)
+	case err != api.OK && err != api.ErrBlob || err == api.ErrBlob && plain != "":
+		t.Fatalf("Unpack(%q) = %q, %d", blob, plain, err)
+	case err == api.OK && len(plain) <= api.MaxText && !bytes.Equal(packedOf(t, plain), blob):
+		t.Fatalf("Unpack(%q) = %q, of which Pack makes something else", blob, plain)
+	}
+	if plain2, err2 := switchyard.Unpack(blob); plain2 != plain || err2 != err {
+		t.Fatalf("Unpack(%q) answers otherwise when it is asked again", blob)
+	}
+}
+
+// withRoom copies bytes to where other bytes stand behind them, in their spare room, and answers all of these too.
+func withRoom(b []byte) ([]byte, []byte) {
+	all := append(bytes.Clone(b), "SY1\x00 and so on"...)
+	return all[:len(b):len(all)], bytes.Clone(all)
+}
+
+func TestBlobsOfAnyBytes(t *testing.T) {
+	source := rand.New(rand.NewSource(4))
+	for range 3000 {
+		b := make([]byte, source.Intn(200))
+		source.Read(b)
+		blobHolds(t, b)
+		blobHolds(t, sealed("SY1", string(b)))
+	}
+	for b := range 256 {
+		same := strings.Repeat(string([]byte{byte(b)}), 10000)
+		blobHolds(t, []byte(same))
+		blobHolds(t, sealed("SY1", same))
+	}
+}
+
+// Bytes with few different ones: these come much further.
+func TestBlobsOfLikelyBytes(t *testing.T) {
+	source := rand.New(rand.NewSource(5))
+	ahead := string(unsealed(packedOf(t, whole)))
+	for range 30000 {
+		b := []byte(ahead)
+		for range source.Intn(4) + 1 {
+			b[source.Intn(len(b))] = "\x00\x01\x02\x03\x04\x05/a*.\""[source.Intn(11)]
+		}
+		blobHolds(t, sealed(string(b)))
+	}
+}
+
+// Every packed policy that is one byte off another one, with the sum that it has then.
+func TestBlobsOneByteOffAPolicy(t *testing.T) {
+	ahead := string(unsealed(packedOf(t, whole)))
+	for i := range ahead {
+		blobHolds(t, sealed(ahead[:i]))
+		blobHolds(t, sealed(ahead[:i], ahead[i+1:]))
+		for b := range 256 {
+			c := string([]byte{byte(b)})
+			blobHolds(t, sealed(ahead[:i], c, ahead[i:]))
+			blobHolds(t, sealed(ahead[:i], c, ahead[i+1:]))
+		}
+	}
+}
+
+func FuzzUnpack(f *testing.F) {
+	for _, text := range []string{"", whole, `host "a" {}`, inHost(rules(6))} {
+		blob, _, _ := switchyard.Pack(text)
+		f.Add(unsealed(blob))
+	}
+	f.Fuzz(func(t *testing.T, b []byte) {
+		blobHolds(t, b)
+		blobHolds(t, sealed(string(b)))
+	})
+}
+
 func TestPlainIsNewMemory(t *testing.T) {
 	first, _, _ := switchyard.Plain(whole)
 	second, _, _ := switchyard.Plain(whole)
 	if first != whole || unsafe.StringData(first) == unsafe.StringData(whole) || unsafe.StringData(first) == unsafe.StringData(second) {
+		t.Error("the answer is memory that was there already")
+	}
+}
+
+func TestPackIsNewMemory(t *testing.T) {
+	for _, text := range []string{"", `host "a" {}`, whole} {
+		first, second := packedOf(t, text), packedOf(t, text)
+		want := bytes.Clone(first)
+		for i := range first[:cap(first)] {
+			first[:cap(first)][i] ^= 0xff
+		}
+		if !bytes.Equal(second, want) || !bytes.Equal(packedOf(t, text), want) {
+			t.Errorf("Pack(%q): what the caller writes into an answer changes another one", text)
+		}
+		if apart := separate(first, second); !apart {
+			t.Errorf("Pack(%q): two answers have a place in common", text)
+		}
+	}
+}
+
+// separate tells whether two lists have no place in common, their spare room too.
+func separate(a, b []byte) bool {
+	aFrom, bFrom := uintptr(unsafe.Pointer(unsafe.SliceData(a))), uintptr(unsafe.Pointer(unsafe.SliceData(b)))
+	return aFrom+uintptr(cap(a)) <= bFrom || bFrom+uintptr(cap(b)) <= aFrom
+}
+
+func TestUnpackKeepsNothingOfWhatIsHandedIn(t *testing.T) {
+	blob := packedOf(t, whole)
+	plain, _ := switchyard.Unpack(blob)
+	for i := range blob[:cap(blob)] {
+		blob[:cap(blob)][i] ^= 0xff
+	}
+	if plain != whole {
+		t.Errorf("the plain form changed with the bytes that it came of: %q", plain)
+	}
+}
+
+func TestUnpackIsNewMemory(t *testing.T) {
+	blob := packedOf(t, whole)
+	first, _ := switchyard.Unpack(blob)
+	second, _ := switchyard.Unpack(blob)
+	if first != whole || unsafe.StringData(first) == unsafe.StringData(second) {
 		t.Error("the answer is memory that was there already")
 	}
 }

@@ -8,13 +8,14 @@ import (
 	"switchyard/switchyard"
 )
 
-// plainIs also holds that the plain form is its own plain form.
+// plainIs also holds that the plain form is its own plain form, and that it comes back from what is packed.
 func plainIs(t *testing.T, text, want string) {
 	t.Helper()
 	for _, s := range []string{text, want} {
 		if got, err, at := switchyard.Plain(s); got != want || err != api.OK || at != 0 {
 			t.Errorf("Plain(%q) = %q, %d, %d, want %q", s, got, err, at, want)
 		}
+		unpacks(t, packedOf(t, s), want)
 	}
 }
 
@@ -25,10 +26,14 @@ func goesWell(t *testing.T, text string) {
 	}
 }
 
+// faultIs is for Plain and Pack alike.
 func faultIs(t *testing.T, text string, want api.Errno, place int) {
 	t.Helper()
 	if got, err, at := switchyard.Plain(text); got != "" || err != want || at != place {
 		t.Errorf("Plain(%q) = %q, error %d at %d, want error %d at %d", text, got, err, at, want, place)
+	}
+	if got, err, at := switchyard.Pack(text); len(got) != 0 || err != want || at != place {
+		t.Errorf("Pack(%q) = %q, error %d at %d, want error %d at %d", text, got, err, at, want, place)
 	}
 }
 

@@ -144,20 +144,23 @@ func TestPlainWritesNumbersWithoutNoughtsAhead(t *testing.T) {
 	}
 }
 
-// The plain form may be longer than a text may be.
-func TestPlainIsNotBoundByMaxText(t *testing.T) {
-	full := `{path"/";header"a";header"b";header"c";to"u"1,"u"1,"u"1,"u"1;drop"a";drop"b";}`
+// tight keeps to MaxText, but its plain form does not.
+func tight() string {
 	text := ""
 	for _, host := range []string{"a", "b", "c", "d"} {
 		text += `host"` + host + `"{`
 		for _, number := range []string{"1", "2", "3", "4", "5", "6"} {
-			text += "rule " + number + full
+			text += "rule " + number + `{path"/";header"a";header"b";header"c";to"u"1,"u"1,"u"1,"u"1;drop"a";drop"b";}`
 		}
 		text += "}"
 	}
-	got, err, _ := switchyard.Plain(text)
-	if err != api.OK || len(text) > api.MaxText || len(got) <= api.MaxText {
-		t.Fatalf("error %d, text of %d bytes, plain form of %d", err, len(text), len(got))
+	return text
+}
+
+func TestPlainIsNotBoundByMaxText(t *testing.T) {
+	got, err, _ := switchyard.Plain(tight())
+	if err != api.OK || len(got) <= api.MaxText {
+		t.Fatalf("error %d, plain form of %d bytes", err, len(got))
 	}
 	if strings.Count(got, "    to \"u\" 1, \"u\" 1, \"u\" 1, \"u\" 1;\n") != 24 {
 		t.Errorf("not all 24 rules in %q", got)

@@ -3,6 +3,7 @@ package switchyard
 
 import (
 	"switchyard/api"
+	"switchyard/packed"
 	"switchyard/policy"
 	"switchyard/source"
 )
@@ -24,10 +25,22 @@ func read(text string) (policy.Policy, api.Errno, int) {
 }
 
 // Pack packs a policy (P6).
-func Pack(text string) ([]byte, api.Errno, int) { return nil, api.OK, 0 }
+func Pack(text string) ([]byte, api.Errno, int) {
+	p, err, at := read(text)
+	if err != api.OK {
+		return nil, err, at
+	}
+	return packed.Bytes(p), api.OK, 0
+}
 
 // Unpack writes a packed policy in its plain form (P7).
-func Unpack(blob []byte) (string, api.Errno) { return "", api.OK }
+func Unpack(blob []byte) (string, api.Errno) {
+	p, is := packed.Read(blob)
+	if !is {
+		return "", api.ErrBlob
+	}
+	return p.Plain(), api.OK
+}
 
 // Yard takes the bytes of many connections.
 type Yard struct{}
