@@ -226,9 +226,11 @@ func TestPackIsNewMemory(t *testing.T) {
 }
 
 // separate tells whether two lists have no place in common, their spare room too.
-func separate(a, b []byte) bool {
+func separate[T any](a, b []T) bool {
+	var one T
+	size := unsafe.Sizeof(one)
 	aFrom, bFrom := uintptr(unsafe.Pointer(unsafe.SliceData(a))), uintptr(unsafe.Pointer(unsafe.SliceData(b)))
-	return aFrom+uintptr(cap(a)) <= bFrom || bFrom+uintptr(cap(b)) <= aFrom
+	return aFrom+size*uintptr(cap(a)) <= bFrom || bFrom+size*uintptr(cap(b)) <= aFrom
 }
 
 func TestUnpackKeepsNothingOfWhatIsHandedIn(t *testing.T) {

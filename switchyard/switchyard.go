@@ -41,27 +41,3 @@ func Unpack(blob []byte) (string, api.Errno) {
 	}
 	return p.Plain(), api.OK
 }
-
-// Yard takes the bytes of many connections.
-type Yard struct{}
-
-// New makes one (P8).
-func New() *Yard { return nil }
-
-// Push takes a packed policy (P8).
-func (y *Yard) Push(blob []byte) api.Errno { return api.OK }
-
-// Draw lays a number behind those that are drawn (P9).
-func (y *Yard) Draw(n uint64) {}
-
-// Open begins a connection (P10).
-func (y *Yard) Open() (int, api.Errno) { return 0, api.OK }
-
-// Feed takes bytes of a connection (P11).
-func (y *Yard) Feed(conn int, b []byte) api.Errno { return api.OK }
-
-// Close ends a connection (P10).
-func (y *Yard) Close(conn int) api.Errno { return api.OK }
-
-// Events tells what came out since it was asked last (P12).
-func (y *Yard) Events() []api.Event { return nil }
