@@ -1,4 +1,4 @@
-// Package request: reads the heads of requests, and says what is refused of them.
+// Package request: reads the heads of requests, says what is refused of them, and writes them as they are sent.
 package request
 
 import (
@@ -8,11 +8,14 @@ import (
 	"switchyard/letters"
 )
 
+const version = "HTTP/1.1"
+
 // Head is the head of one request, as far as its bytes have come.
 type Head struct {
 	size    int // in bytes, line ends too
 	line    []byte
-	begun   bool // the first line has come
+	method  string // empty: the first line has not come
+	target  string
 	headers []header
 }
 
@@ -38,13 +41,21 @@ func (h *Head) look(line string) (whole bool, refused string) {
 	switch {
 	case !ended:
 		return false, api.Bad
-	case !h.begun:
-		h.begun = true
-		return false, badUnless(isFirst(line))
+	case h.method == "":
+		return false, badUnless(h.begin(line))
 	case line == "":
 		return true, badUnless(has("host", h.headers...))
 	}
 	return false, h.add(line)
+}
+
+func (h *Head) begin(line string) bool {
+	parts := strings.Split(line, " ")
+	if len(parts) != 3 || !isMethod(parts[0]) || !isTarget(parts[1]) || parts[2] != version {
+		return false
+	}
+	h.method, h.target = parts[0], parts[1]
+	return true
 }
 
 func (h *Head) add(line string) (refused string) {
@@ -55,20 +66,6 @@ func (h *Head) add(line string) (refused string) {
 	refused = refusal(next, h.headers...)
 	h.headers = append(h.headers, next)
 	return refused
-}
-
-// Body is how many bytes the body behind a whole head has.
-func (h *Head) Body() int {
-	length := 0
-	for _, one := range named("content-length", h.headers...) {
-		length = number(one.value)
-	}
-	return length
-}
-
-func isFirst(line string) bool {
-	parts := strings.Split(line, " ")
-	return len(parts) == 3 && isMethod(parts[0]) && isTarget(parts[1]) && parts[2] == "HTTP/1.1"
 }
 
 func isMethod(s string) bool {

@@ -61,7 +61,7 @@ func isNumber(s string) bool {
 	return s != "" && len(s) <= maxDigits && letters.All(s, letters.IsDigit)
 }
 
-// number is for what isNumber holds of.
+// number is for what isNumber holds of; of nothing it is 0.
 func number(s string) int {
 	n, _ := strconv.Atoi(s)
 	return n
@@ -69,6 +69,15 @@ func number(s string) int {
 
 func has(name string, list ...header) bool {
 	return len(named(name, list...)) > 0
+}
+
+// value is that of the first header of a name, or nothing.
+func value(name string, list ...header) string {
+	found := named(name, list...)
+	if len(found) == 0 {
+		return ""
+	}
+	return found[0].value
 }
 
 // named puts the headers of one name together, in their order.
